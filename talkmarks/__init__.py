@@ -1,0 +1,1 @@
+"""Talkmarks: rooms of talk on several hands."""

@@ -1,0 +1,24 @@
+import inspect
+import unittest
+
+from talkmarks import deeds, houses, names
+
+ARGUMENTS = {
+    names: {"is_name": ["thing"], "is_saying": ["thing"], "names_in": ["saying", "people"]},
+    houses: {"is_house": ["thing"], "house_of": ["people", "rooms"], "is_hand": ["house", "thing"],
+             "hands_of": ["house"], "rooms_of": ["house", "name"], "members_of": ["house", "room"]},
+    deeds: {"is_stamp": ["house", "thing"], "is_vector": ["house", "thing"], "is_act": ["house", "thing"],
+            "is_deed": ["house", "thing"], "stamp_of": ["deed"], "is_within": ["deed", "vector"]},
+}
+
+
+class InterfaceTest(unittest.TestCase):
+    def test_names_and_arguments(self):
+        for module, functions in ARGUMENTS.items():
+            for name, arguments in functions.items():
+                with self.subTest(module=module.__name__, name=name):
+                    self.assertEqual(list(inspect.signature(getattr(module, name)).parameters), arguments)
+
+
+if __name__ == "__main__":
+    unittest.main()
