@@ -80,6 +80,10 @@ def stamp_of(deed):
     return (deed[0], deed[1])
 
 
+def person_of(deed):
+    return deed[1][0]
+
+
 def is_within(deed, vector):
     for hand, count in vector:
         if hand == deed[1]:

@@ -1,9 +1,28 @@
-"""What several tests share: a house, and things of every kind that "of anything" speaks of."""
+"""What several tests share: a house, logs of it, and things of every kind that "of anything" speaks of."""
 
 HOUSE = (
     (("ann", 2), ("bob", 1), ("cy", 3)),
     (("hall", ("ann", "bob", "cy")), ("yard", ("ann", "cy"))),
 )
+ANN = ("ann", 0)
+ANN1 = ("ann", 1)
+BOB = ("bob", 0)
+CY = ("cy", 0)
+CY1 = ("cy", 1)
+CY2 = ("cy", 2)
+
+
+def say(saying, under=None, room="hall"):
+    return ("say", room, under, saying)
+
+
+def log_of(*rows):
+    """A log of rows (time, hand, act) that are told in any order."""
+    deeds = []
+    for time, hand, act in sorted(rows, key=lambda row: row[:2]):
+        number = len([deed for deed in deeds if deed[1] == hand])
+        deeds.append((time, hand, number, act))
+    return tuple(deeds)
 
 
 def deep(thing, levels):

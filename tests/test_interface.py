@@ -1,7 +1,7 @@
 import inspect
 import unittest
 
-from talkmarks import deeds, houses, names
+from talkmarks import deeds, houses, likes, logs, messages, names, rows
 
 ARGUMENTS = {
     names: {"is_name": ["thing"], "is_saying": ["thing"], "names_in": ["saying", "people"]},
@@ -9,6 +9,12 @@ ARGUMENTS = {
              "hands_of": ["house"], "rooms_of": ["house", "name"], "members_of": ["house", "room"]},
     deeds: {"is_stamp": ["house", "thing"], "is_vector": ["house", "thing"], "is_act": ["house", "thing"],
             "is_deed": ["house", "thing"], "stamp_of": ["deed"], "is_within": ["deed", "vector"]},
+    logs: {"is_log": ["house", "thing"], "vector_of": ["log"], "lacking_in": ["log", "vector"],
+           "parcel_of": ["log", "vector", "many"], "joined_logs": ["one", "other"]},
+    messages: {"messages_of": ["house", "log"], "taken_back": ["house", "log"],
+               "message_at": ["house", "log", "stamp"]},
+    rows: {"rows_of": ["house", "log", "room"]},
+    likes: {"likes_of": ["house", "log", "stamp"]},
 }
 
 
