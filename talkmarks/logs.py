@@ -1,6 +1,6 @@
 """Logs: the deeds that a hand has heard, what of them a vector lacks, and two logs joined."""
 
-from talkmarks.deeds import is_deed, is_within, stamp_of
+from talkmarks.deeds import is_deed, is_within, person_of, stamp_of
 from talkmarks.errors import Clash
 from talkmarks.kinds import is_rising
 
@@ -22,6 +22,14 @@ def is_log(house, thing):
 
 def deeds_of_kind(log, kind):
     return [deed for deed in log if deed[3][0] == kind]
+
+
+def deeds_by(log, kind, name):
+    return [deed for deed in deeds_of_kind(log, kind) if person_of(deed) == name]
+
+
+def stamps_told(log, kind, name):
+    return [deed[3][1] for deed in deeds_by(log, kind, name)]
 
 
 def vector_of(log):

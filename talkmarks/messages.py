@@ -54,21 +54,30 @@ def message_of(say, changes):
     return (stamp, room_of(say), under_of(say), person_of(say), saying, stamp in changes)
 
 
-def messages_of(house, log):
+def says_shown(house, log):
     says = says_that_count(house, log)
-    changes = last_changes(log, says)
     backs = stamps_taken_back(log, says)
-    return [message_of(says[stamp], changes) for stamp in says if stamp not in backs]
+    return dict([(stamp, says[stamp]) for stamp in says if stamp not in backs])
+
+
+def messages_of(house, log):
+    says = says_shown(house, log)
+    changes = last_changes(log, says)
+    return [message_of(say, changes) for say in says.values()]
 
 
 def taken_back(house, log):
     return stamps_taken_back(log, says_that_count(house, log))
 
 
-def message_at(house, log, stamp):
+def say_at(house, log, stamp):
+    says = says_shown(house, log)
     # Python takes (True, hand) for (1, hand), which is no stamp.
-    if is_stamp(house, stamp):
-        for message in messages_of(house, log):
-            if message[0] == stamp:
-                return message
-    raise NoMessage("there is no such message")
+    if not is_stamp(house, stamp) or stamp not in says:
+        raise NoMessage("there is no such message")
+    return says[stamp]
+
+
+def message_at(house, log, stamp):
+    say = say_at(house, log, stamp)
+    return message_of(say, last_changes(log, {stamp: say}))

@@ -16,6 +16,14 @@ def say(saying, under=None, room="hall"):
     return ("say", room, under, saying)
 
 
+def hush(what, on=True):
+    return ("hush", what, on)
+
+
+def under(time, hand):
+    return ("under", (time, hand))
+
+
 def log_of(*rows):
     """A log of rows (time, hand, act) that are told in any order."""
     deeds = []

@@ -1,7 +1,7 @@
 import inspect
 import unittest
 
-from talkmarks import deeds, houses, likes, logs, messages, names, rows
+from talkmarks import bells, counts, deeds, houses, hushes, likes, logs, messages, names, reads, rows
 
 ARGUMENTS = {
     names: {"is_name": ["thing"], "is_saying": ["thing"], "names_in": ["saying", "people"]},
@@ -15,6 +15,11 @@ ARGUMENTS = {
                "message_at": ["house", "log", "stamp"]},
     rows: {"rows_of": ["house", "log", "room"]},
     likes: {"likes_of": ["house", "log", "stamp"]},
+    hushes: {"hushes_of": ["log", "name"]},
+    reads: {"has_read": ["house", "log", "name", "stamp"], "readers_of": ["house", "log", "stamp"]},
+    counts: {"new_for": ["house", "log", "name", "room"], "named_for": ["house", "log", "name", "room"],
+             "first_new": ["house", "log", "name", "room"], "totals_for": ["house", "log", "name"]},
+    bells: {"bells_for": ["house", "log", "name"]},
 }
 
 
