@@ -57,9 +57,13 @@ def unlike_places(one, other):
     return [place_of(deed) for deed in one if others.get(place_of(deed), deed) != deed]
 
 
-def joined_logs(one, other):
+def refuse_unlike(one, other):
     unlike = unlike_places(one, other)
     if len(unlike) > 0:
         first = min(unlike)
         raise Clash(first[0], first[1])
+
+
+def joined_logs(one, other):
+    refuse_unlike(one, other)
     return tuple(sorted(one + lacking_in(other, vector_of(one)), key=stamp_of))

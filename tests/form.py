@@ -38,6 +38,15 @@ def faults_in(source):
     return sorted(set(found))
 
 
+def methods_and_values(source):
+    """The names that classes of a file have as methods, and those that objects have as values."""
+    tree = ast.parse(source)
+    classes = [node for node in tree.body if isinstance(node, ast.ClassDef)]
+    methods = {part.name for node in classes for part in node.body if isinstance(part, ast.FunctionDef)}
+    attributes = [node for node in ast.walk(tree) if isinstance(node, ast.Attribute)]
+    return methods, {node.attr for node in attributes if isinstance(node.ctx, ast.Store)}
+
+
 def text_faults(source):
     found = []
     lines = source.split("\n")
@@ -105,6 +114,9 @@ def node_faults(node, parents):
 
 def function_faults(node, parents):
     found = []
+    given = [part for part in ast.walk(node) if isinstance(part, ast.Return) and part.value]
+    if node.name == "__init__" and given:
+        found.append("L28")
     plain = node.args
     if plain.vararg or plain.kwarg or plain.kwonlyargs or plain.posonlyargs or node.decorator_list:
         found.append("L4")
@@ -134,7 +146,7 @@ def call_faults(node, parents):
         found.append("L22")
     if called in WALKED and not isinstance(parent, (ast.For, ast.comprehension)) and within not in WALKERS:
         found.append("L23")
-    beside = isinstance(parent, (ast.Compare, ast.BinOp)) or within in ("sorted", "len")
+    beside = isinstance(parent, (ast.Compare, ast.BinOp)) or within in ("sorted", "len") and not parent.keywords
     if called in ("set", "frozenset") and not beside:
         found.append("L24")
     return found

@@ -4,14 +4,15 @@ import re
 import unittest
 
 import talkmarks
-from form import faults_in
+from form import faults_in, methods_and_values
 
 FOLDER = os.path.dirname(os.path.abspath(talkmarks.__file__))
 
 # Each leaves the rule that stands beside it.
 WRONG = [
     ("import os\n", "L6"), ("from os import path\n", "L2"), ("from talkmarks.names import *\n", "L2"),
-    ("x = 1\nx = 2\n", "L15"), ("f()\n", "L3"), ("def f(*a):\n    return 1\n", "L4"), ("@g\ndef f():\n    pass\n", "L4"),
+    ("x = 1\nx = 2\n", "L15"), ("f()\n", "L3"), ("def f(*a):\n    return 1\n", "L4"),
+    ("@g\ndef f():\n    pass\n", "L4"),
     ("class A:\n    x = 1\n", "L5"), ("class A:\n    def __add__(self, o):\n        return 1\n", "L5"),
     ("def f():\n    assert True\n", "L6"), ("def f(x):\n    a = b = x\n", "L6"), ("def f(x):\n    'doc'\n", "L6"),
     ("def f(x):\n    return x / 2\n", "L7"), ("def f(x):\n    return {y for y in x}\n", "L7"),
@@ -21,7 +22,9 @@ WRONG = [
     ("def f(x):\n    try:\n        x()\n    except TypeError:\n        pass\n", "L19"),
     ("def f(x, y):\n    return x is y\n", "L20"), ("def f(x: int):\n    return x\n", "L21"),
     ("def f(x):\n    return list(x, key=len)\n", "L22"), ("def f(x):\n    y = zip(x, x)\n    return y\n", "L23"),
-    ("def f(x):\n    y = set(x)\n    return y\n", "L24"), ("def f(x):\n    x.sort()\n", "L25"), ("X = '%'\n", "L27"),
+    ("class A:\n    def __init__(self):\n        return None\n", "L28"),
+    ("def f(x):\n    return sorted(set(x), key=len)\n", "L24"), ("def f(x):\n    y = set(x)\n    return y\n", "L24"),
+    ("def f(x):\n    x.sort()\n", "L25"), ("X = '%'\n", "L27"),
 ]
 
 
@@ -76,6 +79,14 @@ class FormTest(unittest.TestCase):
         graph = {file: [node.module.split(".")[1] + ".py" for node in drawn_from(file)] for file in files()}
         for file in graph:
             self.assertNotIn(file, reach_of(file, graph))
+
+    def test_no_name_is_a_method_here_and_a_value_there(self):
+        found = [methods_and_values(source_of(file)) for file in files()]
+        methods = set().union(*[pair[0] for pair in found])
+        values = set().union(*[pair[1] for pair in found])
+        self.assertLessEqual({"say_row", "together", "hear"}, methods)
+        self.assertLessEqual({"house", "hand", "number"}, values)
+        self.assertEqual(methods & values, set())
 
     def test_faults_are_seen(self):
         for source, rule in WRONG:

@@ -1,7 +1,10 @@
 import inspect
 import unittest
 
-from talkmarks import bells, counts, deeds, houses, hushes, likes, logs, messages, names, reads, rows
+from talkmarks import bells, counts, deeds, houses, hushes, likes, logs, messages, names, reads, rows, wording
+from talkmarks.halls import Hall
+from talkmarks.hands import Hand
+from talkmarks.packs import Pack
 
 ARGUMENTS = {
     names: {"is_name": ["thing"], "is_saying": ["thing"], "names_in": ["saying", "people"]},
@@ -20,6 +23,19 @@ ARGUMENTS = {
     counts: {"new_for": ["house", "log", "name", "room"], "named_for": ["house", "log", "name", "room"],
              "first_new": ["house", "log", "name", "room"], "totals_for": ["house", "log", "name"]},
     bells: {"bells_for": ["house", "log", "name"]},
+    wording: {"show_stamp": ["stamp"], "read_stamp": ["house", "text"]},
+}
+
+METHODS = {
+    Pack: {"__init__": "(self, house, log)", "table": "(self)", "vector": "(self)", "together": "(self, other)",
+           "messages": "(self)", "rows": "(self, room)", "likes": "(self, stamp)", "has_read": "(self, name, stamp)",
+           "new_to": "(self, name, room)", "totals": "(self, name)", "bells": "(self, name)"},
+    Hand: {"__init__": "(self, house, name, k)", "heard": "(self)", "say": "(self, room, saying, under=None)",
+           "change": "(self, message, saying)", "take_back": "(self, message)",
+           "like": "(self, message, sort, on=True)", "see": "(self, message)", "read": "(self, room)",
+           "hush": "(self, what, on=True)", "hear": "(self, deeds)", "ring": "(self)"},
+    Hall: {"__init__": "(self, house)", "hand_at": "(self, name, k)", "tell": "(self, one, other, many=None)",
+           "say_row": "(self, row)"},
 }
 
 
@@ -29,6 +45,12 @@ class InterfaceTest(unittest.TestCase):
             for name, arguments in functions.items():
                 with self.subTest(module=module.__name__, name=name):
                     self.assertEqual(list(inspect.signature(getattr(module, name)).parameters), arguments)
+
+    def test_methods_and_arguments(self):
+        for kind, methods in METHODS.items():
+            for name, arguments in methods.items():
+                with self.subTest(kind=kind.__name__, name=name):
+                    self.assertEqual(str(inspect.signature(getattr(kind, name))), arguments)
 
 
 if __name__ == "__main__":
