@@ -46,7 +46,8 @@ class ReadTest(unittest.TestCase):
 
     def test_signs_that_are_no_figures(self):
         for sign in [chr(k) for k in range(32, 127) if not 48 <= k <= 57] + ["\t", "\n"]:
-            for ahead, behind in [("", "1ann0"), ("1", "ann0"), ("1", "2ann0"), ("1ann", ""), ("1ann", "0"), ("1ann0", "")]:
+            for ahead, behind in [("", "1ann0"), ("1", "ann0"), ("1", "2ann0"), ("1ann", ""), ("1ann", "0"),
+                                  ("1ann0", "")]:
                 self.refused(ahead + sign + behind)
 
     def test_no_texts(self):
