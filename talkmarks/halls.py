@@ -7,17 +7,17 @@ from talkmarks.likes import likes_of
 from talkmarks.logs import lacking_in, parcel_of, vector_of
 from talkmarks.messages import messages_of
 from talkmarks.rows import rows_of
-from talkmarks.wording import read_row, read_saying, show_stamp
+from talkmarks.wording import read_row, show_stamp
 
 
 def joined_or_none(between, texts):
     return between.join(texts) if len(texts) > 0 else "none"
 
 
-def answer_at(hand, message, rest):
-    # The message goes ahead of the saying: it is refused ahead of all.
+def answer_at(hand, message, saying):
+    # The row tells no room: the message is asked for it, and so refused ahead of the room.
     room = hand.message_here(message)[1]
-    return hand.say(room, read_saying(rest), message)
+    return hand.say(room, saying, message)
 
 
 def done_at(hand, verb, parts):

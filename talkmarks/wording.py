@@ -7,10 +7,10 @@ from talkmarks.names import is_name, is_saying
 FIGURES = "0123456789"
 MOST_FIGURES = 12
 
-# Small words stand in a row as they are; a SAYING, or whatever stands in its place, is all the rest of the row.
+# Small words stand in a row as they are; a SAYING is all the rest of the row.
 FORMS = (
     ("HAND", "say", "ROOM", "SAYING"),
-    ("HAND", "answer", "MESSAGE", "REST"),
+    ("HAND", "answer", "MESSAGE", "SAYING"),
     ("HAND", "change", "MESSAGE", "SAYING"),
     ("HAND", "back", "MESSAGE"),
     ("HAND", "like", "MESSAGE", "SORT"),
@@ -95,7 +95,7 @@ def read_word(house, place, word):
 
 
 def words_for(form, row):
-    return row.split(" ", len(form) - 1) if form[-1] in ("SAYING", "REST") else row.split(" ")
+    return row.split(" ", len(form) - 1) if form[-1] == "SAYING" else row.split(" ")
 
 
 def fits(form, words):

@@ -40,7 +40,7 @@ class PlainHall:
     def say_row(self, row):
         for pattern, answer in [
                 ("say " + NAME + " " + SAYING, lambda room, saying: self.hand.say(room, saying)),
-                ("answer " + MESSAGE + " (.+)", self.answer),
+                ("answer " + MESSAGE + " " + SAYING, self.answer),
                 ("change " + MESSAGE + " " + SAYING, lambda t, h, saying: self.hand.change(stamp_in(t, h), saying)),
                 ("back " + MESSAGE, lambda t, h: self.hand.take_back(stamp_in(t, h))),
                 ("like " + MESSAGE + " " + NAME, lambda t, h, sort: self.hand.like(stamp_in(t, h), sort)),
@@ -60,8 +60,6 @@ class PlainHall:
         rooms = [room for room, members in HOUSE[1] if self.place[0] in members]
         if message_at(HOUSE, self.hand.heard(), stamp)[1] not in rooms:
             raise NoMessage("of another room")
-        if re.fullmatch(SAYING, saying) is None:
-            raise NoRow("no saying")
         return self.hand.say(message_at(HOUSE, self.hand.heard(), stamp)[1], saying, stamp)
 
     def ask_row(self, row):

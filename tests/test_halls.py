@@ -361,10 +361,10 @@ class NoRowTest(HallCase):
                          "ann0 change 1ann0 " + saying)
 
     def test_ahead_of_other_refusals(self):
-        for saying in ["", "x" * 61, "\n"]:
+        for saying in ["", "x" * 61, " " * 61, "\n", "@ann, \n", "a\ttab"]:
             # No such room, not a member's, no such message, somebody else's.
             self.refused(NoRow, "ann0 say shed " + saying, "bob0 say yard " + saying, "ann0 change 9ann0 " + saying,
-                         "bob0 change 1ann0 " + saying)
+                         "bob0 change 1ann0 " + saying, "ann0 answer 9ann0 " + saying, "bob0 answer 1ann0 " + saying)
         self.refused(NoRow, "ann0 like 9ann0 Good", "bob0 like 1ann0 good1", "ann0 like 9ann0 ")
         self.refused(NoRow, "bob0 shows yard x", "bob0 read yard x", "bob0 read shed ")
 
@@ -392,12 +392,17 @@ class RefusedRowsTest(HallCase):
                      "ann0 unhush person dan", "ann0 hush room ann", "ann0 hush person hall", "ann0 hush room abcdefgh")
 
     def test_answer_refuses_no_message_ahead_of_all(self):
+        # Not NoRoom, though the first one is of a room of which bob is no member.
         for message in ["2ann0", "3ann0", "9cy2"]:
-            for saying in ["hi", " ", "x" * 61, "hi\n", "\t"]:
+            for saying in ["hi", " ", "x" * 60, "  ~"]:
                 self.refused(NoMessage, f"bob0 answer {message} {saying}")
-        # Where there is no saying at all, it is no row of this form.
-        self.refused(NoRow, "bob0 answer 9cy2", "bob0 answer 9cy2 ", "bob0 answer 9cy3 hi", "bob1 answer 9cy2 hi")
-        self.refused(NoRow, "bob0 answer 1ann0 " + "x" * 61)
+
+    def test_whether_an_answer_is_a_row_is_asked_first(self):
+        for message in ["1ann0", "2ann0", "3ann0", "9cy2"]:
+            for saying in ["", "x" * 61, " " * 61, "hi\n", "\t", "a\tb"]:
+                self.refused(NoRow, f"bob0 answer {message} {saying}")
+            self.refused(NoRow, f"bob0 answer {message}", f"bob1 answer {message} hi")
+        self.refused(NoRow, "bob0 answer 9cy3 hi")
 
     def test_rows_go_on_behind_a_refusal(self):
         self.refused(NoRoom, "bob0 say yard hi")
